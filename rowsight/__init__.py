@@ -1,0 +1,1 @@
+"""Rowsight: people of unlike heights in a row, and who is seen."""
