@@ -22,6 +22,17 @@ def check_row(row):
         raise BadRow("the heights of a row are unlike")
 
 
+def has_each_once(heights, many):
+    # What is no number is told first: it can't be put in order with numbers.
+    return all([is_whole_number(height) for height in heights]) and sorted(heights) == list(range(1, many + 1))
+
+
+def check_whole_row(row):
+    check_row(row)
+    if not has_each_once(row, len(row)):
+        raise BadRow("a whole row has just the heights from 1 on")
+
+
 def seen_along(row, places):
     seen = []
     for place in places:
